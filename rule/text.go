@@ -26,8 +26,8 @@ func FormatProvision(p api.Provision) string {
 
 // ParseProvision returns the provision with a text.
 func ParseProvision(s string) (api.Provision, api.Errno) {
-	p, e := readProvision(s)
-	if e := firstError(e, checkProvision(p)); e != api.OK {
+	p, wrong := readProvision(s)
+	if e := firstError(wrong, checkProvision(p)); e != api.OK {
 		return api.Provision{}, e
 	}
 	return p, api.OK
